@@ -1,0 +1,1 @@
+"""Gluework: webs of points and ties, cut and glued by rules."""

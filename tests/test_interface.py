@@ -1,0 +1,31 @@
+"""The interface: the names and arguments are there as they stand in it."""
+
+import importlib
+import inspect
+import unittest
+
+INTERFACE = {
+    "webs": [
+        "is_name(thing)", "is_kind(thing)", "is_web(thing)", "checked(thing)", "things(web)", "hold(web, name)",
+        "is_part(web, other)", "without(web, names)", "glued(web, more)", "renamed(web, names)",
+    ],
+    "matches": [
+        "is_match(piece, web, match)", "line(piece, match)", "matches(piece, web, fixed=None)",
+        "likeness(web, other, fixed=None)",
+    ],
+    "rules": ["is_rule(thing)", "kept(rule)", "taken(rule)", "fresh_of(rule)", "turned(rule)"],
+}
+
+
+class Interface(unittest.TestCase):
+    def test_names_and_arguments(self):
+        for module, rows in INTERFACE.items():
+            held = importlib.import_module(f"gluework.{module}")
+            for row in rows:
+                with self.subTest(f"{module}: {row}"):
+                    name = row.split("(")[0]
+                    self.assertEqual(row, name + str(inspect.signature(getattr(held, name))))
+
+
+if __name__ == "__main__":
+    unittest.main()
