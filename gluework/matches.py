@@ -27,13 +27,17 @@ def matches(piece, web, fixed=None):
     return found(piece, web, piece[0], web[0], fixed, None)
 
 
+def first_match(piece, web, fixed):
+    """The first match of piece in web that puts what fixed tells as it does, or None."""
+    return first_found(piece, web, piece[0], web[0], fixed)
+
+
 def likeness(web, other, fixed=None):
     """The first likeness of web and other that puts what fixed tells as it does, or None."""
     if len(web[0]) != len(other[0]) or len(web[1]) != len(other[1]):
         return None
     # As many things are put to as many unlike ones: nothing of other is left over.
-    told = found(web, other, looks(web), looks(other), fixed, 1)
-    return told[0] if told else None
+    return first_found(web, other, looks(web), looks(other), fixed)
 
 
 def looks(web):
@@ -45,6 +49,13 @@ def tie_looks(web, name):
     """How the ties in the hold of a point look from there, in order."""
     ties = [web[1][tie] for tie in hold(web, name)]
     return sorted([(tie[0], tie[1] == name, tie[2] == name) for tie in ties])
+
+
+def first_found(piece, web, piece_looks, web_looks, fixed):
+    """The first match that puts points to points of the same look, or None."""
+    # The search ends with the first one: there may be very many.
+    told = found(piece, web, piece_looks, web_looks, fixed, 1)
+    return told[0] if told else None
 
 
 def found(piece, web, piece_looks, web_looks, fixed, most):

@@ -64,3 +64,8 @@ def fresh_of(rule):
 def turned(rule):
     """The rule turned, which does its steps back: right, left and no bars."""
     return (copied(rule[1]), copied(rule[0]), [])
+
+
+def rule_copied(rule):
+    """A new rule, the same as this one."""
+    return (copied(rule[0]), copied(rule[1]), [copied(bar) for bar in rule[2]])

@@ -90,16 +90,21 @@ def without(web, names):
     return copied((points, ties))
 
 
-def glued(web, more):
-    """The web with more's points and ties glued in; refused with NoNames where web has one of the names."""
-    for name in things(more):
-        if name in web[0] or name in web[1]:
-            raise NoNames(f"{name} is in the web already")
+def united(web, more):
+    """The things of both together, where each name that both have stands for the same thing."""
     points = dict(web[0])
     points.update(more[0])
     ties = dict(web[1])
     ties.update(more[1])
     return copied((points, ties))
+
+
+def glued(web, more):
+    """The web with more's points and ties glued in; refused with NoNames where web has one of the names."""
+    for name in things(more):
+        if name in web[0] or name in web[1]:
+            raise NoNames(f"{name} is in the web already")
+    return united(web, more)
 
 
 def tie_renamed(tie, names):

@@ -1,6 +1,7 @@
 """Webs, spoiled things and slow but plain searches that several tests use."""
 
 import itertools
+import re
 
 ODD_THINGS = [
     None, True, False, 0, 1, -3, 10 ** 30, 1.5, float("nan"), "", "a", "a web", b"a", [], [1], ["a", "b"],
@@ -88,6 +89,105 @@ def slow_matches(piece, web):
 
 def does_as(match, fixed):
     return all(match[name] == image for name, image in fixed.items())
+
+
+def some_rule(chance, kinds="xxy", tie_kinds="kkl", bars=0):
+    """A rule drawn by chance, of small pieces, with at most so many bars."""
+    letters = list("abcdefghijklmnopqrstuvwxyz")
+    chance.shuffle(letters)
+    points = {letters.pop(): chance.choice(kinds) for k in range(chance.randrange(4))}
+    left = (points, drawn_ties(chance, letters, points, tie_kinds, chance.randrange(3)))
+    kept_points = {name: kind for name, kind in points.items() if chance.randrange(3)}
+    kept_ties = {
+        name: tie for name, tie in left[1].items()
+        if tie[1] in kept_points and tie[2] in kept_points and chance.randrange(3)
+    }
+    new_points = {letters.pop(): chance.choice(kinds) for k in range(chance.randrange(min(3, 5 - len(kept_points))))}
+    right_points = {**kept_points, **new_points}
+    new_ties = drawn_ties(chance, letters, right_points, tie_kinds, chance.randrange(4 - len(kept_ties)))
+    told = []
+    for k in range(chance.randrange(bars + 1)):
+        more = {**points, **{letters.pop(): chance.choice(kinds) for number in range(chance.randrange(2))}}
+        told.append((more, {**left[1], **drawn_ties(chance, letters, more, tie_kinds, chance.randrange(3))}))
+    return (left, (right_points, {**kept_ties, **new_ties}), told)
+
+
+def drawn_ties(chance, letters, points, tie_kinds, count):
+    """So many ties between points (none, where there are no points), named by the last letters, which are used up."""
+    names = sorted(points)
+    return {
+        letters.pop(): (chance.choice(tie_kinds), chance.choice(names), chance.choice(names))
+        for k in range(count if points else 0)
+    }
+
+
+def new_names(rule, mark):
+    """The dict from the names of a rule's new things to these with a mark ahead."""
+    return {name: mark + name for name in names_in_order(rule[1]) if name not in names_in_order(rule[0])}
+
+
+def steps_of(rule, web, mark):
+    """All steps of the web by the rule, the new names being the rule's with a mark ahead."""
+    every = [(rule, match, new_names(rule, mark)) for match in slow_matches(rule[0], web)]
+    return [step for step in every if slow_done(web, step)[0] == "web"]
+
+
+def some_row(chance, web, rules, most, mark="n"):
+    """A row of at most so many steps drawn by chance, and the webs from web to that behind it."""
+    row = []
+    webs = [web]
+    while len(row) < most:
+        steps = [step for rule in rules for step in steps_of(rule, webs[-1], f"{mark}{len(row)}.")]
+        if not steps:
+            break
+        row.append(chance.choice(steps))
+        webs.append(slow_done(webs[-1], row[-1])[1])
+    return row, webs
+
+
+def is_texts_dict(thing, names):
+    """Whether thing is a dict from just these names to texts, no two of them the same."""
+    if not isinstance(thing, dict) or set(thing) != set(names):
+        return False
+    return all(isinstance(image, str) for image in thing.values()) and len(set(thing.values())) == len(thing)
+
+
+def slow_barred(web, rule, match):
+    """Point 15, word for word."""
+    for number, bar in enumerate(rule[2]):
+        for told in slow_matches(bar, web):
+            if does_as(told, match):
+                return number, told
+    return None
+
+
+def slow_done(web, step):
+    """Points 12 and 13, word for word: ("web", the web behind the step) or (the refusal's name,)."""
+    (left, right, bars), match, fresh = step
+    if not is_texts_dict(match, names_in_order(left)) or not puts_well(left, web, match):
+        return ("NoMatch",)
+    for name in left[0]:
+        for tie, (kind, start, end) in web[1].items():
+            if name not in right[0] and match[name] in (start, end) and tie not in [match[one] for one in left[1]]:
+                return ("Loose",)
+    if slow_barred(web, step[0], match) is not None:
+        return ("Barred",)
+    news = [name for name in names_in_order(right) if name not in names_in_order(left)]
+    if not is_texts_dict(fresh, news):
+        return ("NoNames",)
+    for name in fresh.values():
+        if not re.fullmatch(r"[a-z][a-z0-9.]{0,23}", name) or name in names_in_order(web):
+            return ("NoNames",)
+    gone = [match[name] for name in names_in_order(left) if name not in names_in_order(right)]
+    points = {name: kind for name, kind in web[0].items() if name not in gone}
+    ties = {name: tie for name, tie in web[1].items() if name not in gone}
+    for name in news:
+        if name in right[0]:
+            points[fresh[name]] = right[0][name]
+        else:
+            kind, start, end = right[1][name]
+            ties[fresh[name]] = (kind, fresh.get(start) or match[start], fresh.get(end) or match[end])
+    return ("web", (points, ties))
 
 
 class Unchanged:

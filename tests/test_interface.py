@@ -14,6 +14,13 @@ INTERFACE = {
         "likeness(web, other, fixed=None)",
     ],
     "rules": ["is_rule(thing)", "kept(rule)", "taken(rule)", "fresh_of(rule)", "turned(rule)"],
+    "steps": ["barred(web, rule, match)", "done(web, step)", "behind(step)", "back(step)"],
+    "rows": ["gone_through(web, row)", "back_row(row)"],
+    "apart": ["clash(web, one, other)", "changed_places(web, row, k)"],
+    "overlaps": [
+        "overlaps(piece, other)", "overlap_web(piece, other, pairs)", "overlap_of(match, other)",
+        "lies(piece, other, pairs, match, other_match)",
+    ],
 }
 
 

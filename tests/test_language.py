@@ -39,6 +39,12 @@ WALKED = {"zip", "enumerate", "reversed", "range"}
 WALKED_METHODS = {"items", "keys", "values"}
 WALKERS = {"list", "tuple", "dict", "sorted", "sum", "any", "all", "enumerate", "zip", "min", "max"}
 
+KEYWORDS = {
+    "sorted": {"key", "reverse"}, "min": {"key", "default"}, "max": {"key", "default"}, "sum": {"start"},
+    "enumerate": {"start"}, "zip": {"strict"},
+}
+CHANGES = {"append", "clear", "extend", "insert", "pop", "remove", "reverse", "setdefault", "update"}
+
 
 def parsed(path):
     return ast.parse(path.read_text(encoding="utf-8"))
@@ -59,6 +65,15 @@ def called(node):
 def called_method(node):
     """The name of the method that a call calls, or None."""
     return node.func.attr if isinstance(node, ast.Call) and isinstance(node.func, ast.Attribute) else None
+
+
+def changed(node):
+    """The name of what a call or an assignment changes in place, or None."""
+    if called_method(node) in CHANGES and isinstance(node.func.value, ast.Name):
+        return node.func.value.id
+    if isinstance(node, ast.Subscript) and isinstance(node.ctx, ast.Store) and isinstance(node.value, ast.Name):
+        return node.value.id
+    return None
 
 
 def bound_in(function):
@@ -257,6 +272,62 @@ class Language(unittest.TestCase):
                     if called(node) in ("set", "frozenset"):
                         asks = called(above) in ("len", "sorted") or isinstance(above, (ast.Compare, ast.BinOp))
                         self.assertTrue(asks, node.lineno)
+
+    def test_errors_are_raised_on_the_spot_and_taken_by_name(self):
+        for path in FILES:
+            tree = parsed(path)
+            own = {name for module, name in imported(tree) if module == "gluework.errors"}
+            with self.subTest(path.name):
+                for node in ast.walk(tree):
+                    if isinstance(node, ast.Raise):
+                        self.assertIn(called(node.exc), own)
+                        self.assertIsNone(node.cause)
+                    if isinstance(node, ast.ExceptHandler):
+                        self.assertIsInstance(node.type, ast.Name)
+                        self.assertIn(node.type.id, own | {"KeyError", "ZeroDivisionError", "StopIteration"})
+
+    def test_keywords(self):
+        for path in FILES:
+            for node in ast.walk(parsed(path)):
+                if isinstance(node, ast.Call):
+                    told = {one.arg for one in node.keywords}
+                    name = called(node)
+                    if called_method(node) or name in OWN_NAMES:
+                        self.assertLessEqual(told, KEYWORDS.get(name, set()), (path.name, node.lineno))
+
+    def test_methods_are_called_where_they_stand(self):
+        for path in FILES:
+            for above, node in kin(parsed(path)):
+                if isinstance(node, ast.Attribute) and node.attr in METHODS:
+                    self.assertTrue(isinstance(above, ast.Call) and above.func is node, (path.name, node.lineno))
+
+    def test_python_s_own_names_are_called_and_not_kept(self):
+        for path in FILES:
+            for above, node in kin(parsed(path)):
+                if isinstance(node, ast.Name) and node.id in OWN_NAMES and not node.id.endswith(("Error", "Exception")):
+                    called_there = isinstance(above, ast.Call) and above.func is node
+                    asked = called(above) == "isinstance" or isinstance(above, (ast.Tuple, ast.keyword))
+                    self.assertTrue(called_there or asked, (path.name, node.lineno))
+
+    def test_what_a_loop_walks_is_not_changed_in_it(self):
+        for path in FILES:
+            for loop in ast.walk(parsed(path)):
+                if isinstance(loop, ast.For):
+                    walked = {node.id for node in ast.walk(loop.iter) if isinstance(node, ast.Name)}
+                    for node in [node for row in loop.body for node in ast.walk(row)]:
+                        self.assertNotIn(changed(node), walked, (path.name, loop.lineno))
+
+    def test_names_at_a_file_s_top_are_given_plain_values_that_cannot_change(self):
+        for path in FILES:
+            for row in parsed(path).body:
+                if isinstance(row, ast.Assign):
+                    self.assertIsInstance(ast.literal_eval(row.value), (int, str, bool, tuple), (path.name, row.lineno))
+
+    def test_powers_lambdas_and_written_sets_are_done_without(self):
+        # Each is allowed in narrow forms alone, which nothing here needs.
+        for path in FILES:
+            for node in ast.walk(parsed(path)):
+                self.assertNotIsInstance(node, (ast.Pow, ast.Lambda, ast.Set), path.name)
 
 
 if __name__ == "__main__":

@@ -2,9 +2,13 @@
 
 import unittest
 
-from gluework.errors import Loose, NoNames, NoWeb
+from gluework.apart import changed_places, clash
+from gluework.errors import Barred, Loose, NoMatch, NoNames, NoOverlap, NoWeb
 from gluework.matches import is_match, likeness, line, matches
+from gluework.overlaps import lies, overlap_of, overlap_web, overlaps
+from gluework.rows import back_row, gone_through
 from gluework.rules import fresh_of, is_rule, kept, taken, turned
+from gluework.steps import back, barred, behind, done
 from gluework.webs import (
     checked, glued, hold, is_kind, is_name, is_part, is_web, renamed, things, without,
 )
@@ -16,6 +20,25 @@ NAMES = {"w": "i", "v": "h", "u": "g", "t2": "f", "t1": "e", "c.1": "o", "b": "n
 LEFT = ({"b": "x", "a": "x"}, {"t": ("k", "a", "b"), "s": ("k", "a", "a")})
 RIGHT = ({"c": "x", "a": "x"}, {"u": ("k", "a", "c"), "s": ("k", "a", "a")})
 RULE = (LEFT, RIGHT, [({"o": "x", **LEFT[0]}, dict(LEFT[1]))])
+
+# RULE is barred there; STEP and OTHER_STEP are apart, THIRD_STEP can be done behind STEP alone.
+WEB = (
+    {"r": "x", "q": "x", "p": "x"},
+    {"t": ("k", "p", "q"), "s": ("k", "p", "p"), "v": ("k", "r", "p"), "l": ("k", "r", "r")},
+)
+BAR = ({"o": "w", **LEFT[0]}, {"z": ("w", "o", "a"), **LEFT[1]})
+FREE = (LEFT, RIGHT, [BAR, BAR])
+MATCH = {"t": "t", "s": "s", "b": "q", "a": "p"}
+STEP = (FREE, MATCH, {"u": "n.u", "c": "n.c"})
+ALL_KEPT = ((PIECE[0], {}), (PIECE[0], {"s": ("k", "p", "q"), "r": ("l", "p", "q")}), [])
+OTHER_STEP = (ALL_KEPT, {"q": "r", "p": "p"}, {"s": "m.s", "r": "m.r"})
+THIRD_STEP = (ALL_KEPT, {"q": "r", "p": "n.c"}, {"s": "o.s", "r": "o.r"})
+STILL = (LEFT, LEFT, [BAR])
+STILL_STEP = (STILL, MATCH, {})
+ROW = [STEP, OTHER_STEP, THIRD_STEP]
+PAIRS = [("p", "a"), ("q", "b"), ("s", "t")]
+PIECE_MATCH = {"s": "t1", "r": "t2", "q": "b", "p": "a"}
+POINTS = ({"n": "x", "m": "x"}, {})
 
 
 def other_order(thing):
@@ -61,11 +84,28 @@ CALLS = [
     (likeness, (RICH, RICH)), (likeness, (RICH, RICH, {"t2": "t1", "b": "b"})), (likeness, (PIECE, RICH)),
     (is_rule, (RULE,)), (kept, (RULE,)), (taken, (RULE,)), (fresh_of, (RULE,)), (turned, (RULE,)),
     (turned, ((LEFT, RIGHT, []),)),
+    (barred, (WEB, RULE, MATCH)), (barred, (WEB, FREE, MATCH)), (barred, (WEB, (LEFT, RIGHT, [BAR, LEFT]), MATCH)),
+    (done, (WEB, STEP)), (done, (WEB, OTHER_STEP)), (done, (WEB, STILL_STEP)), (behind, (STEP,)),
+    (behind, (STILL_STEP,)), (back, (STEP,)), (back, (STILL_STEP,)), (gone_through, (WEB, [])),
+    (gone_through, (WEB, ROW)), (gone_through, (WEB, [STILL_STEP, STILL_STEP])), (back_row, ([],)), (back_row, (ROW,)),
+    (back_row, ([STILL_STEP, STILL_STEP],)), (clash, (WEB, STEP, OTHER_STEP)), (clash, (WEB, STEP, STEP)),
+    (clash, (WEB, STILL_STEP, STEP)), (changed_places, (WEB, ROW, 0)), (changed_places, (WEB, ROW, 1)),
+    (changed_places, (WEB, [OTHER_STEP, STEP, THIRD_STEP], 1)), (changed_places, (WEB, [STILL_STEP, STILL_STEP], 0)),
+    (changed_places, (WEB, [STILL_STEP, STILL_STEP, STEP], 0)), (overlaps, (PIECE, LEFT)), (overlaps, (PIECE, PIECE)),
+    (overlaps, (({}, {}), RICH)), (overlap_web, (PIECE, LEFT, PAIRS)), (overlap_web, (PIECE, LEFT, [])),
+    (overlap_web, (({}, {}), ({}, {}), [])), (overlap_of, (PIECE_MATCH, {"m": "a", "n": "b"})),
+    (overlap_of, (PIECE_MATCH, PIECE_MATCH)), (overlap_of, ({}, {})),
+    (lies, (PIECE, POINTS, [("p", "m"), ("q", "n")], PIECE_MATCH, {"n": "b", "m": "a"})),
+    (lies, (PIECE, POINTS, [("q", "n")], PIECE_MATCH, {"n": "b", "m": "d"})),
 ]
 
 REFUSED = [
     (NoWeb, checked, (({"b": "x", "a": "X"}, {}),)), (Loose, without, (RICH, ["v", "a"])),
     (NoNames, glued, (RICH, ({"d": "x", "a": "x"}, {}))),
+    (NoMatch, done, (WEB, (FREE, {**MATCH, "t": "v"}, STEP[2]))), (NoNames, done, (WEB, (FREE, MATCH, {"c": "p"}))),
+    (Loose, done, ((WEB[0], {**WEB[1], "m": ("k", "q", "r")}), STEP)), (Barred, done, (WEB, (RULE, MATCH, STEP[2]))),
+    (NoMatch, gone_through, (WEB, [STEP, STEP])), (NoMatch, changed_places, (WEB, [OTHER_STEP, STEP, STEP], 0)),
+    (Barred, clash, (WEB, STEP, (RULE, MATCH, STEP[2]))), (NoOverlap, overlap_web, (PIECE, LEFT, PAIRS[1:] + PAIRS[:1])),
 ]
 
 
@@ -116,7 +156,11 @@ class Own(unittest.TestCase):
     def test_the_samples_themselves(self):
         self.assertEqual(RICH, turned_about(RICH))
         self.assertNotEqual(repr(RICH), repr(turned_about(RICH)))
-        self.assertTrue(is_rule(RULE))
+        for rule in (RULE, FREE, ALL_KEPT, STILL):
+            self.assertTrue(is_rule(rule))
+        self.assertIsNotNone(barred(WEB, RULE, MATCH))
+        self.assertIsNotNone(changed_places(WEB, ROW, 0))
+        self.assertIsNone(changed_places(WEB, [OTHER_STEP, STEP, THIRD_STEP], 1))
 
 
 if __name__ == "__main__":

@@ -1,0 +1,17 @@
+"""Rows of steps, each one done behind those ahead of it."""
+
+from gluework.steps import back, done
+from gluework.webs import copied
+
+
+def gone_through(web, row):
+    """The webs from web to that behind the last step; refused as the first step that cannot be done is."""
+    webs = [copied(web)]
+    for step in row:
+        webs.append(done(webs[-1], step))
+    return webs
+
+
+def back_row(row):
+    """The row that leads back from behind this one, the last step's step back first."""
+    return [back(step) for step in reversed(row)]
