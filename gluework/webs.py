@@ -6,6 +6,7 @@ SMALL_LETTERS = "abcdefghijklmnopqrstuvwxyz"
 NAME_SIGNS = "abcdefghijklmnopqrstuvwxyz0123456789."
 MOST_NAME_SIGNS = 24
 MOST_KIND_SIGNS = 8
+MOST_MARK_SIGNS = 6
 
 
 def is_text_of(thing, signs, most):
@@ -23,6 +24,11 @@ def is_name(thing):
 def is_kind(thing):
     """Whether thing, of any kind, is a kind."""
     return is_text_of(thing, SMALL_LETTERS, MOST_KIND_SIGNS)
+
+
+def is_mark(thing):
+    """Whether thing, of any kind, is a mark, with which new names begin."""
+    return is_text_of(thing, SMALL_LETTERS, MOST_MARK_SIGNS)
 
 
 def is_tie(thing, points):

@@ -3,6 +3,8 @@
 import itertools
 import re
 
+from gluework.matches import matches
+
 ODD_THINGS = [
     None, True, False, 0, 1, -3, 10 ** 30, 1.5, float("nan"), "", "a", "a web", b"a", [], [1], ["a", "b"],
     (), (1,), (1, 2), ("a", "b"), ("a", "b", "c"), {}, {"a": "b"}, {1: 2}, {None: None}, set(), {"a"},
@@ -188,6 +190,153 @@ def slow_done(web, step):
             kind, start, end = right[1][name]
             ties[fresh[name]] = (kind, fresh.get(start) or match[start], fresh.get(end) or match[end])
     return ("web", (points, ties))
+
+
+def slow_clash(web, one, other):
+    """Point 17, word for word."""
+    names = [name for name in one[2].values() if name in other[2].values()]
+    if names:
+        return ("names", min(names))
+    gone = []
+    for step in (one, other):
+        rule, match, fresh = step
+        taken = [name for web_of in rule[0] for name in web_of if name not in rule[1][0] and name not in rule[1][1]]
+        gone.extend(match[name] for name in taken)
+    both = [name for name in one[1].values() if name in other[1].values() and name in gone]
+    if both:
+        return ("gone", min(both))
+    if slow_barred(slow_done(web, other)[1], one[0], one[1]) is not None:
+        return ("barred", 0)
+    if slow_barred(slow_done(web, one)[1], other[0], other[1]) is not None:
+        return ("barred", 1)
+    return None
+
+
+def some_pairings(names, others):
+    """All ways to pair some of the names with unlike ones of the others."""
+    for count in range(min(len(names), len(others)) + 1):
+        for some in itertools.combinations(names, count):
+            for images in itertools.permutations(others, count):
+                yield list(zip(some, images))
+
+
+def pairs_well(piece, other, pairs):
+    """Whether each of the pairs is one as point 19 asks for, word for word."""
+    paired = dict(pairs)
+    for name, image in pairs:
+        if name in piece[0]:
+            if image not in other[0] or other[0][image] != piece[0][name]:
+                return False
+        else:
+            kind, start, end = piece[1][name]
+            if image not in other[1] or other[1][image][0] != kind:
+                return False
+            if (start, other[1][image][1]) not in pairs or (end, other[1][image][2]) not in pairs:
+                return False
+    return len(paired) == len(pairs)
+
+
+def slow_overlaps(piece, other):
+    """All overlaps in order, each way to pair points and ties tried."""
+    ties = list(some_pairings(sorted(piece[1]), sorted(other[1])))
+    told = []
+    for points in some_pairings(sorted(piece[0]), sorted(other[0])):
+        told.extend(sorted(points + some) for some in ties if pairs_well(piece, other, points + some))
+    return sorted(told)
+
+
+def slow_split_steps(rule, other, pairs):
+    """The overlap web of point 20 and the steps of point 22, word for word."""
+    first = {name: f"a.{name}" for name in names_in_order(rule[0])}
+    paired = {two: one for one, two in pairs}
+    second = {name: f"a.{paired[name]}" if name in paired else f"b.{name}" for name in names_in_order(other[0])}
+    points = {}
+    ties = {}
+    for piece, put in ((rule[0], first), (other[0], second)):
+        points.update({put[name]: kind for name, kind in piece[0].items()})
+        ties.update({put[name]: (kind, put[start], put[end]) for name, (kind, start, end) in piece[1].items()})
+    return (points, ties), (rule, first, new_names(rule, "c.")), (other, second, new_names(other, "d."))
+
+
+def slow_splits(rule, other):
+    """Point 22, word for word: all overlaps whose steps can be done and are not apart."""
+    told = []
+    for pairs in slow_overlaps(rule[0], other[0]):
+        web, one, two = slow_split_steps(rule, other, pairs)
+        if slow_done(web, one)[0] == "web" and slow_done(web, two)[0] == "web" and slow_clash(web, one, two):
+            told.append(pairs)
+    return told
+
+
+def taken_by(step):
+    """What a step takes out of its web."""
+    (left, right, bars), match, fresh = step
+    return [match[name] for name in names_in_order(left) if name not in names_in_order(right)]
+
+
+def ends_of(web, rules, kept, most):
+    """The webs behind all rows of at most so many steps by the rules that keep these points, each row tried."""
+    told = [web]
+    last = [web]
+    for number in range(most):
+        ahead = last
+        last = []
+        for begun in ahead:
+            for rule in rules:
+                for match in matches(rule[0], begun):
+                    step = (rule, match, new_names(rule, f"s{number}."))
+                    if not set(taken_by(step)) & set(kept) and slow_done(begun, step)[0] == "web":
+                        last.append(slow_done(begun, step)[1])
+        told.extend(last)
+    return told
+
+
+def are_alike(web, other, kept):
+    """Whether there is a likeness that puts these points to themselves, each way to put the other points tried."""
+    if [sorted(one[0].values()) for one in (web, other)].count(sorted(web[0].values())) != 2:
+        return False
+    if len(web[1]) != len(other[1]):
+        return False
+    free = sorted(set(web[0]) - set(kept))
+    ties = sorted(other[1].values())
+    for row in itertools.permutations(sorted(set(other[0]) - set(kept)), len(free)):
+        put = dict(zip(free, row), **{name: name for name in kept})
+        if all(other[0][put[name]] == kind for name, kind in web[0].items()):
+            if sorted((kind, put[start], put[end]) for kind, start, end in web[1].values()) == ties:
+                return True
+    return False
+
+
+def slow_meets(rules, i, j, pairs, most):
+    """Whether a split has a meeting by point 23, all rows of at most so many steps tried."""
+    web, one, other = slow_split_steps(rules[i], rules[j], pairs)
+    kept = set(web[0]) - set(taken_by(one)) - set(taken_by(other))
+    ends, others = [ends_of(slow_done(web, step)[1], rules, kept, most) for step in (one, other)]
+    return any(are_alike(end, other_end, kept) for end in ends for other_end in others)
+
+
+def gone_well(case, web, row, rules, kept, new_name):
+    """The web behind a row, which is gone through by steps of these rules alone that keep what is told."""
+    case.assertIsInstance(row, list)
+    for step in row:
+        case.assertIsInstance(step, tuple)
+        case.assertIn(step[0], rules)
+        told = slow_done(web, step)
+        case.assertEqual("web", told[0])
+        case.assertEqual(set(), set(taken_by(step)) & set(kept))
+        for name in step[2].values():
+            case.assertRegex(name, new_name)
+        web = told[1]
+    return web
+
+
+def assert_likeness(case, web, other, likeness, kept):
+    """It is a match of web in other to all of whose things something is put, and these are put to themselves."""
+    case.assertTrue(is_texts_dict(likeness, names_in_order(web)))
+    case.assertTrue(puts_well(web, other, likeness))
+    case.assertEqual(sorted(names_in_order(other)), sorted(likeness.values()))
+    for name in kept:
+        case.assertEqual(name, likeness[name])
 
 
 class Unchanged:

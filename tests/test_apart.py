@@ -9,7 +9,7 @@ from gluework.errors import Barred, GlueError, Loose, NoMatch, NoNames
 from gluework.rows import gone_through
 from gluework.rules import is_rule
 from gluework.steps import done
-from samples import EMPTY, Unchanged, slow_barred, slow_done, some_row, some_rule, some_web, steps_of
+from samples import EMPTY, Unchanged, slow_clash, slow_done, some_row, some_rule, some_web, steps_of
 
 X = ({"a": "x"}, {})
 ADD = (EMPTY, ({"a": "x", "b": "y"}, {}), [])
@@ -42,26 +42,6 @@ def can_be_done_in_turn(web, row):
             return None
         web = told[1]
     return web
-
-
-def slow_clash(web, one, other):
-    """Point 17, word for word."""
-    names = [name for name in one[2].values() if name in other[2].values()]
-    if names:
-        return ("names", min(names))
-    gone = []
-    for step in (one, other):
-        rule, match, fresh = step
-        taken = [name for web_of in rule[0] for name in web_of if name not in rule[1][0] and name not in rule[1][1]]
-        gone.extend(match[name] for name in taken)
-    both = [name for name in one[1].values() if name in other[1].values() and name in gone]
-    if both:
-        return ("gone", min(both))
-    if slow_barred(slow_done(web, other)[1], one[0], one[1]) is not None:
-        return ("barred", 0)
-    if slow_barred(slow_done(web, one)[1], other[0], other[1]) is not None:
-        return ("barred", 1)
-    return None
 
 
 class Clash(unittest.TestCase):

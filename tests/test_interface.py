@@ -2,6 +2,7 @@
 
 import importlib
 import inspect
+import operator
 import unittest
 
 INTERFACE = {
@@ -21,6 +22,10 @@ INTERFACE = {
         "overlaps(piece, other)", "overlap_web(piece, other, pairs)", "overlap_of(match, other)",
         "lies(piece, other, pairs, match, other_match)",
     ],
+    "splits": ["splits(rule, other)", "split_steps(rule, other, pairs)"],
+    "meetings": ["meeting(rules, i, j, pairs, most)", "looked_through(rules, most=1)"],
+    "books": ["Book(rules, most=1)", "Book.meetings(self)", "Book.meet(self, web, one, other, mark='m')"],
+    "weights": ["weighed(web, weights)", "falls(rule, weights)"],
 }
 
 
@@ -31,7 +36,7 @@ class Interface(unittest.TestCase):
             for row in rows:
                 with self.subTest(f"{module}: {row}"):
                     name = row.split("(")[0]
-                    self.assertEqual(row, name + str(inspect.signature(getattr(held, name))))
+                    self.assertEqual(row, name + str(inspect.signature(operator.attrgetter(name)(held))))
 
 
 if __name__ == "__main__":

@@ -30,9 +30,10 @@ METHODS = set("""
 """.split())
 WORDS = set("""
     type typing typing_extensions enum Enum IntEnum StrEnum Flag IntFlag Generic Protocol ABC ABCMeta namedtuple
-    NamedTuple TypedDict TYPE_CHECKING abstractmethod register mro elements open input version_info with_traceback
-    add_note
+    NamedTuple TypedDict TYPE_CHECKING abstractmethod
 """.split())
+# These are out as names, methods and values alone: a text may be such a word.
+NO_NAMES = set("register mro elements open input version_info with_traceback add_note".split())
 PARTS_OF_WORDS = ("dataclass", "overload", "contextmanager")
 SPECIAL_METHODS = {"__init__", "__eq__", "__repr__", "__str__", "__len__"}
 WALKED = {"zip", "enumerate", "reversed", "range"}
@@ -103,7 +104,7 @@ class Language(unittest.TestCase):
             self.assertTrue(path.is_file())
             self.assertRegex(path.name, r"^(__init__|__main__|[a-z][a-z0-9_]*)\.py$")
             self.assertNotIn(path.stem, dir(builtins))
-            self.assertNotIn(path.stem, WORDS | {"test", "tests", "testing", "site", "conftest"})
+            self.assertNotIn(path.stem, WORDS | NO_NAMES | {"test", "tests", "testing", "site", "conftest"})
             self.assertFalse(path.stem.startswith("test_"))
 
     def test_signs_and_sizes(self):
@@ -122,6 +123,12 @@ class Language(unittest.TestCase):
             text = path.read_text(encoding="utf-8")
             self.assertEqual([], [word for word in re.findall(r"\w+", text) if word in WORDS])
             self.assertEqual([], [part for part in PARTS_OF_WORDS if part in text])
+
+    def test_names_that_are_not_used(self):
+        for path in FILES:
+            for node in ast.walk(parsed(path)):
+                for held in ("id", "attr", "arg", "name"):
+                    self.assertNotIn(getattr(node, held, None), NO_NAMES, path.name)
 
     def test_top_of_a_file(self):
         for path in FILES:
@@ -182,7 +189,7 @@ class Language(unittest.TestCase):
                         self.assertIn(type(node.value), (int, str, bool, type(None)))
                         self.assertFalse(isinstance(node.value, str) and "%" in node.value)
                     if isinstance(node, ast.FormattedValue):
-                        self.assertIsInstance(node.value, ast.Name)
+                        self.assertIsInstance(node.value, ast.Name, node.lineno)
                         self.assertIsNone(node.format_spec)
                     self.assertNotIsInstance(node, (ast.Div, ast.MatMult, ast.Starred))
 
@@ -253,6 +260,23 @@ class Language(unittest.TestCase):
                     if isinstance(node, ast.Attribute):
                         self.assertFalse(node.attr.startswith("_") and node.attr not in SPECIAL_METHODS)
                         self.assertNotIn(node.attr, ("format", "format_map", "mro"))
+
+    def test_no_name_is_a_method_here_and_a_value_there(self):
+        methods = []
+        values = set()
+        for path in FILES:
+            for node in ast.walk(parsed(path)):
+                if isinstance(node, ast.ClassDef):
+                    own = [row.name for row in node.body if isinstance(row, ast.FunctionDef)]
+                    self.assertEqual(len(set(own)), len(own))
+                    methods.extend(own)
+                if isinstance(node, ast.Attribute) and isinstance(node.ctx, ast.Store):
+                    self.assertIsInstance(node.value, ast.Name)
+                    values.add(node.attr)
+        self.assertEqual(set(), values & set(methods))
+        python_s = {name for kind in (str, int, list, dict, set, bytes, tuple) for name in dir(kind)}
+        self.assertEqual(set(), values & python_s)
+        self.assertEqual(set(), (set(methods) - SPECIAL_METHODS) & python_s)
 
     def test_walked_on_the_spot(self):
         for path in FILES:

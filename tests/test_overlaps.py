@@ -8,45 +8,12 @@ from gluework.errors import GlueError, NoOverlap
 from gluework.matches import is_match, matches
 from gluework.overlaps import lies, overlap_of, overlap_web, overlaps
 from gluework.webs import is_web, things
-from samples import EMPTY, ODD_THINGS, RICH, Unchanged, some_piece, some_web, turned_about
+from samples import EMPTY, ODD_THINGS, RICH, Unchanged, slow_overlaps, some_piece, some_web, turned_about
 
 ARROW = ({"p": "x", "q": "x"}, {"s": ("k", "p", "q")})
 # Its names are in part those of ARROW, for other things.
 OTHER = ({"q": "x", "r": "y", "s": "x"}, {"p": ("k", "s", "q"), "t": ("k", "s", "q"), "u": ("l", "s", "s")})
 TWO_LOOPS = ({"a": "x"}, {"l": ("k", "a", "a"), "m": ("k", "a", "a")})
-
-
-def some_pairings(names, others):
-    """All ways to pair some of the names with unlike ones of the others."""
-    for count in range(min(len(names), len(others)) + 1):
-        for some in itertools.combinations(names, count):
-            for images in itertools.permutations(others, count):
-                yield list(zip(some, images))
-
-
-def pairs_well(piece, other, pairs):
-    """Whether each of the pairs is one as point 19 asks for, word for word."""
-    paired = dict(pairs)
-    for name, image in pairs:
-        if name in piece[0]:
-            if image not in other[0] or other[0][image] != piece[0][name]:
-                return False
-        else:
-            kind, start, end = piece[1][name]
-            if image not in other[1] or other[1][image][0] != kind:
-                return False
-            if (start, other[1][image][1]) not in pairs or (end, other[1][image][2]) not in pairs:
-                return False
-    return len(paired) == len(pairs)
-
-
-def slow_overlaps(piece, other):
-    """All overlaps in order, each way to pair points and ties tried."""
-    ties = list(some_pairings(sorted(piece[1]), sorted(other[1])))
-    told = []
-    for points in some_pairings(sorted(piece[0]), sorted(other[0])):
-        told.extend(sorted(points + some) for some in ties if pairs_well(piece, other, points + some))
-    return sorted(told)
 
 
 def hard_web(chance, mark):

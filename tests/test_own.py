@@ -3,12 +3,16 @@
 import unittest
 
 from gluework.apart import changed_places, clash
-from gluework.errors import Barred, Loose, NoMatch, NoNames, NoOverlap, NoWeb
+from gluework.books import Book
+from gluework.errors import Barred, HasBars, Loose, NoMatch, NoNames, NoOverlap, NoRule, NoWeb, Open
 from gluework.matches import is_match, likeness, line, matches
+from gluework.meetings import looked_through, meeting
 from gluework.overlaps import lies, overlap_of, overlap_web, overlaps
 from gluework.rows import back_row, gone_through
 from gluework.rules import fresh_of, is_rule, kept, taken, turned
+from gluework.splits import split_steps, splits
 from gluework.steps import back, barred, behind, done
+from gluework.weights import falls, weighed
 from gluework.webs import (
     checked, glued, hold, is_kind, is_name, is_part, is_web, renamed, things, without,
 )
@@ -39,6 +43,29 @@ ROW = [STEP, OTHER_STEP, THIRD_STEP]
 PAIRS = [("p", "a"), ("q", "b"), ("s", "t")]
 PIECE_MATCH = {"s": "t1", "r": "t2", "q": "b", "p": "a"}
 POINTS = ({"n": "x", "m": "x"}, {})
+
+# The rules of a book: a tie becomes one of two kinds, with a new point beside it, and each of both a third one.
+ENDS = {"b": "x", "a": "x"}
+BOOK_RULES = [
+    ((ENDS, {"t": ("k", "a", "b")}), ({"c": "y", **ENDS}, {"v": ("z", "c", "a"), "u": (kind, "a", "b")}), [])
+    for kind in "mn"
+] + [((ENDS, {"t": (kind, "a", "b")}), (ENDS, {"v": ("o", "b", "b"), "u": ("o", "b", "a")}), []) for kind in "mn"]
+BOOK_PAIRS = [("a", "a"), ("b", "b"), ("t", "t")]
+BOOK_WEB = ({"r": "x", "q": "x", "p": "x"}, {"t": ("k", "p", "q"), "s": ("k", "q", "q"), "l": ("l", "r", "q")})
+BOOK_STEPS = [
+    (BOOK_RULES[0], {"t": "t", "b": "q", "a": "p"}, {"v": "n.v", "u": "n.u", "c": "n.c"}),
+    (BOOK_RULES[1], {"t": "t", "b": "q", "a": "p"}, {"v": "o.v", "u": "o.u", "c": "o.c"}),
+]
+GROW = (POINTS, (POINTS[0], {"t": ("k", "n", "m")}), [])
+GROW_STEPS = [(GROW, {"n": "p", "m": "q"}, {"t": name}) for name in ("n.t", "o.t")]
+
+
+def book_meetings(rules, most):
+    return Book(rules, most).meetings()
+
+
+def book_met(rules, web, one, other):
+    return Book(rules).meet(web, one, other)
 
 
 def other_order(thing):
@@ -97,6 +124,15 @@ CALLS = [
     (overlap_of, (PIECE_MATCH, PIECE_MATCH)), (overlap_of, ({}, {})),
     (lies, (PIECE, POINTS, [("p", "m"), ("q", "n")], PIECE_MATCH, {"n": "b", "m": "a"})),
     (lies, (PIECE, POINTS, [("q", "n")], PIECE_MATCH, {"n": "b", "m": "d"})),
+    (splits, (BOOK_RULES[0], BOOK_RULES[1])), (splits, (ALL_KEPT, ALL_KEPT)),
+    (split_steps, (BOOK_RULES[0], BOOK_RULES[1], BOOK_PAIRS)), (split_steps, (ALL_KEPT, ALL_KEPT, [])),
+    (meeting, (BOOK_RULES, 0, 1, BOOK_PAIRS, 1)), (meeting, (BOOK_RULES, 0, 1, BOOK_PAIRS, 0)),
+    (meeting, (BOOK_RULES, 0, 0, BOOK_PAIRS, 3)), (looked_through, (BOOK_RULES,)), (looked_through, (BOOK_RULES, 0)),
+    (looked_through, ([],)), (book_meetings, (BOOK_RULES, 1)), (book_meetings, ([ALL_KEPT], 0)),
+    (book_met, (BOOK_RULES, BOOK_WEB, BOOK_STEPS[0], BOOK_STEPS[1])),
+    (book_met, (BOOK_RULES, BOOK_WEB, BOOK_STEPS[1], BOOK_STEPS[0])),
+    (book_met, ([GROW], BOOK_WEB, GROW_STEPS[0], GROW_STEPS[1])),
+    (weighed, (RICH, {"y": 3, "x": 2, "k": 1})), (falls, (RULE, {"y": 3, "x": 2, "k": 1})),
 ]
 
 REFUSED = [
@@ -105,7 +141,13 @@ REFUSED = [
     (NoMatch, done, (WEB, (FREE, {**MATCH, "t": "v"}, STEP[2]))), (NoNames, done, (WEB, (FREE, MATCH, {"c": "p"}))),
     (Loose, done, ((WEB[0], {**WEB[1], "m": ("k", "q", "r")}), STEP)), (Barred, done, (WEB, (RULE, MATCH, STEP[2]))),
     (NoMatch, gone_through, (WEB, [STEP, STEP])), (NoMatch, changed_places, (WEB, [OTHER_STEP, STEP, STEP], 0)),
-    (Barred, clash, (WEB, STEP, (RULE, MATCH, STEP[2]))), (NoOverlap, overlap_web, (PIECE, LEFT, PAIRS[1:] + PAIRS[:1])),
+    (Barred, clash, (WEB, STEP, (RULE, MATCH, STEP[2]))), 
+    (NoOverlap, overlap_web, (PIECE, LEFT, PAIRS[1:] + PAIRS[:1])), (HasBars, splits, (ALL_KEPT, FREE)),
+    (HasBars, split_steps, (FREE, ALL_KEPT, [])), (NoOverlap, split_steps, (ALL_KEPT, ALL_KEPT, [("s", "s")])),
+    (HasBars, meeting, (BOOK_RULES + [FREE], 0, 1, BOOK_PAIRS, 1)), (HasBars, looked_through, ([FREE],)),
+    (HasBars, book_meetings, ([FREE], 1)), (Open, book_meetings, (BOOK_RULES, 0)),
+    (NoRule, book_met, (BOOK_RULES, BOOK_WEB, BOOK_STEPS[0], GROW_STEPS[0])),
+    (NoNames, book_met, (BOOK_RULES, BOOK_WEB, BOOK_STEPS[0], BOOK_STEPS[0])),
 ]
 
 
@@ -156,8 +198,10 @@ class Own(unittest.TestCase):
     def test_the_samples_themselves(self):
         self.assertEqual(RICH, turned_about(RICH))
         self.assertNotEqual(repr(RICH), repr(turned_about(RICH)))
-        for rule in (RULE, FREE, ALL_KEPT, STILL):
+        for rule in [RULE, FREE, ALL_KEPT, STILL, GROW] + BOOK_RULES:
             self.assertTrue(is_rule(rule))
+        self.assertIn(BOOK_PAIRS, splits(BOOK_RULES[0], BOOK_RULES[1]))
+        self.assertTrue(all(book_met(BOOK_RULES, BOOK_WEB, *BOOK_STEPS)))
         self.assertIsNotNone(barred(WEB, RULE, MATCH))
         self.assertIsNotNone(changed_places(WEB, ROW, 0))
         self.assertIsNone(changed_places(WEB, [OTHER_STEP, STEP, THIRD_STEP], 1))

@@ -1,0 +1,127 @@
+"""The search for rows of steps from two webs to alike ones."""
+
+from gluework.counts import all_kinds, counted, hopes, layers, move_of, moved
+from gluework.errors import Loose
+from gluework.forms import form, likeness_by_looks
+from gluework.matches import matches
+from gluework.splits import named_step
+from gluework.steps import done, step_copied, taken_out
+
+
+class Spot:
+    """A web that a row leads to, the row, the web's counts, and its form, by which alike webs are found."""
+
+    def __init__(self, web, steps, counts, points):
+        told = form(web, points)
+        self.end = web
+        self.steps = steps
+        self.counts = counts
+        self.shape = told[0]
+        self.looks = told[1]
+
+
+class Side:
+    """The webs that rows from one web lead to, of alike ones just the first."""
+
+    def __init__(self, start, mark, points, hopeful):
+        self.mark = mark
+        self.points = points
+        self.hopeful = hopeful
+        self.reached = {}
+        self.last = []
+        self.take(start)
+
+    def take(self, spot):
+        """Keeps a spot, from which rows may go on."""
+        self.reached.setdefault(spot.shape, []).append(spot)
+        self.last.append(spot)
+
+    def alike(self, spot):
+        """The spot kept here whose web is like this one's, or None."""
+        for other in self.reached.get(spot.shape, []):
+            if likeness_of(other, spot, self.points) is not None:
+                return other
+        return None
+
+
+def likeness_of(spot, other, points):
+    """A likeness that leaves these points as they are, of the webs of two spots of the same shape, or None."""
+    return likeness_by_looks(spot.end, other.end, spot.looks, other.looks, points)
+
+
+def web_behind(web, step, points):
+    """The web behind the step, or None where it would take out one of the points or leave a tie loose."""
+    if any([name in points for name in taken_out(step)]):
+        return None
+    try:
+        return done(web, step)
+    except Loose:
+        return None
+
+
+def next_spots(spot, rule, counts, side):
+    """The spots behind this one by a step of the rule, where there is hope for webs of these counts."""
+    number = len(spot.steps)
+    if counts not in side.hopeful[number + 1]:
+        return []
+    mark = side.mark + str(number) + "."
+    told = []
+    for match in matches(rule[0], spot.end):
+        step = named_step(rule, match, mark)
+        web = web_behind(spot.end, step, side.points)
+        if web is not None:
+            told.append(Spot(web, spot.steps + [step], counts, side.points))
+    return told
+
+
+def gone_on(side, other, moving):
+    """Goes a step farther on a side; told are the first alike spots of it and of the other one, or None."""
+    begun = list(side.last)
+    side.last = []
+    for spot in begun:
+        for rule, move in moving:
+            for found in next_spots(spot, rule, moved(spot.counts, move), side):
+                # From alike webs rows lead to alike webs: the one that was reached first is enough.
+                if side.alike(found) is None:
+                    side.take(found)
+                    there = other.alike(found)
+                    if there is not None:
+                        return (found, there)
+    return None
+
+
+def first_met(one, other, moving, most):
+    """The first alike spots of both sides, by rows of at most most steps each, or None."""
+    start = one.last[0]
+    there = other.alike(start)
+    met = None if there is None else (start, there)
+    for number in range(most):
+        if met is None:
+            met = gone_on(one, other, moving)
+        if met is None:
+            turned_met = gone_on(other, one, moving)
+            met = None if turned_met is None else (turned_met[1], turned_met[0])
+    return met
+
+
+def met_within(rules, web, other, points, most):
+    """The first alike spots by rows from web and from other, of at most most steps each, or None."""
+    kinds = all_kinds([web, other] + [rule[0] for rule in rules] + [rule[1] for rule in rules])
+    moving = [(rule, move_of(rule, kinds)) for rule in rules]
+    moves = sorted(set([move for rule, move in moving]))
+    own = layers(counted(web, kinds), moves, most)
+    others = layers(counted(other, kinds), moves, most)
+    side = Side(Spot(web, [], own[0][0], points), "e", points, hopes(own, others, moves))
+    other_side = Side(Spot(other, [], others[0][0], points), "f", points, hopes(others, own, moves))
+    return first_met(side, other_side, moving, most)
+
+
+def met_again(rules, web, other, points, most):
+    """Rows from both webs, of at most most steps each, to alike webs, and a likeness of these; or None."""
+    for limit in range(most + 1):
+        met = met_within(rules, web, other, points, limit)
+        if met is not None:
+            way = [step_copied(step) for step in met[0].steps]
+            other_way = [step_copied(step) for step in met[1].steps]
+            return (way, other_way, likeness_of(met[0], met[1], points))
+    return None
