@@ -30,7 +30,8 @@ def looks_around(web, numbers):
 def form(web, points):
     """A text that webs share which are alike by a likeness that keeps these points, and the looks of all points.
 
-    In webs of the same text a likeness puts points to points of the same look.
+    In webs of the same text a likeness puts points to points of the same look. Where no two points look the same,
+    the looks tell the whole web, so that webs of the same text are alike.
     """
     looks = first_looks(web, points)
     rounds = [sorted(looks.values())]

@@ -4,6 +4,7 @@ from gluework.counts import all_kinds, counted, hopes, layers, move_of, moved
 from gluework.errors import Loose
 from gluework.forms import form, likeness_by_looks
 from gluework.matches import matches
+from gluework.rules import fresh_of, taken
 from gluework.splits import named_step
 from gluework.steps import done, step_copied, taken_out
 
@@ -18,6 +19,7 @@ class Spot:
         self.counts = counts
         self.shape = told[0]
         self.looks = told[1]
+        self.is_told_by_looks = len(set(list(told[1].values()))) == len(told[1])
 
 
 class Side:
@@ -39,7 +41,7 @@ class Side:
     def alike(self, spot):
         """The spot kept here whose web is like this one's, or None."""
         for other in self.reached.get(spot.shape, []):
-            if likeness_of(other, spot, self.points) is not None:
+            if spot.is_told_by_looks or likeness_of(other, spot, self.points) is not None:
                 return other
         return None
 
@@ -59,6 +61,24 @@ def web_behind(web, step, points):
         return None
 
 
+def effective(rule):
+    """The names of left on which the web behind a step hangs: what is taken out, and the ends of new ties."""
+    names = taken(rule)
+    for name in fresh_of(rule):
+        if name in rule[1][1]:
+            names.extend([end for end in rule[1][1][name][1:] if end in rule[0][0]])
+    return names
+
+
+def unlike_matches(rule, web):
+    """The matches of the rule's left in the web, but of those by which the same would be done just the first."""
+    names = effective(rule)
+    told = {}
+    for match in matches(rule[0], web):
+        told.setdefault(tuple([match[name] for name in names]), match)
+    return list(told.values())
+
+
 def next_spots(spot, rule, counts, side):
     """The spots behind this one by a step of the rule, where there is hope for webs of these counts."""
     number = len(spot.steps)
@@ -66,7 +86,7 @@ def next_spots(spot, rule, counts, side):
         return []
     mark = side.mark + str(number) + "."
     told = []
-    for match in matches(rule[0], spot.end):
+    for match in unlike_matches(rule, spot.end):
         step = named_step(rule, match, mark)
         web = web_behind(spot.end, step, side.points)
         if web is not None:
@@ -119,7 +139,8 @@ def met_within(rules, web, other, points, most):
 def met_again(rules, web, other, points, most):
     """Rows from both webs, of at most most steps each, to alike webs, and a likeness of these; or None."""
     for limit in range(most + 1):
-        met = met_within(rules, web, other, points, limit)
+        # Many splits meet at once, and rows without steps need no rules, which would all have to be counted.
+        met = met_within(rules if limit > 0 else [], web, other, points, limit)
         if met is not None:
             way = [step_copied(step) for step in met[0].steps]
             other_way = [step_copied(step) for step in met[1].steps]

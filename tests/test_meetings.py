@@ -198,6 +198,23 @@ class Meeting(Meets):
         for most in range(4):
             self.assert_meeting(rules + [ADD], 0, 1, [("p", "p")], most, most >= 2)
 
+    def test_rings_which_look_the_same_from_each_point(self):
+        points = {name: "y" for name in "abcd"}
+        one_ring, two_rings = [
+            (points, {name: ("k", *ends) for name, ends in zip("stuv", rows)})
+            for rows in (["ab", "bc", "cd", "da"], ["ab", "ba", "cd", "dc"])
+        ]
+        x = ({"p": "x"}, {})
+        z = ({"p": "z"}, {})
+        self.assert_meeting([(x, one_ring, []), (x, two_rings, [])], 0, 1, [("p", "p")], 3, False)
+        self.assert_meeting([(x, two_rings, []), (x, two_rings, [])], 0, 1, [("p", "p")], 0, True)
+        # One side reaches both, of which the first one is not what the other side has reached.
+        for rings in ([one_ring, two_rings], [two_rings, one_ring]):
+            for told in rings:
+                rules = [swap("x", "z"), (x, told, [])] + [(z, ring, []) for ring in rings]
+                self.assert_meeting(rules, 0, 1, [("p", "p")], 1, True)
+                self.assert_meeting(rules, 1, 0, [("p", "p")], 1, True)
+
     def test_very_many_rows_that_cannot_meet(self):
         four = {name: "x" for name in "abcd"}
         grow = ((four, {}), (four, {"s": ("n", "a", "b"), "t": ("n", "b", "c"), "u": ("n", "c", "d")}), [])
