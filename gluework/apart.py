@@ -1,8 +1,8 @@
 """Whether two steps disturb one another, and what one takes from the other."""
 
 from gluework.errors import GlueError
-from gluework.rows import gone_through
-from gluework.steps import barred, done, step_copied, taken_out
+from gluework.rows import gone_through, row_copied
+from gluework.steps import barred, done, taken_out
 
 
 def common(one, other):
@@ -45,4 +45,4 @@ def changed_places(web, row, k):
     pair = [row[k + 1], row[k]]
     if not can_be_gone_through(webs[k], pair):
         return None
-    return [step_copied(step) for step in row[:k] + pair + row[k + 2:]]
+    return row_copied(row[:k] + pair + row[k + 2:])

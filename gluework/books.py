@@ -4,15 +4,10 @@ from gluework.apart import clash
 from gluework.errors import NoNames, NoRule, Open
 from gluework.meetings import looked_through
 from gluework.overlaps import lies, overlap_of
-from gluework.rows import gone_through
+from gluework.rows import gone_through, row_copied
 from gluework.rules import rule_copied
 from gluework.steps import done, step_copied
 from gluework.webs import is_mark, things
-
-
-def row_copied(row):
-    """A new row, the same as this one."""
-    return [step_copied(step) for step in row]
 
 
 def meeting_turned(met):

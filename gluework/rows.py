@@ -1,6 +1,6 @@
 """Rows of steps, each one done behind those ahead of it."""
 
-from gluework.steps import back, done
+from gluework.steps import back, done, step_copied
 from gluework.webs import copied
 
 
@@ -15,3 +15,8 @@ def gone_through(web, row):
 def back_row(row):
     """The row that leads back from behind this one, the last step's step back first."""
     return [back(step) for step in reversed(row)]
+
+
+def row_copied(row):
+    """A new row, the same as this one."""
+    return [step_copied(step) for step in row]

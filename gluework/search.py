@@ -4,9 +4,9 @@ from gluework.counts import all_kinds, counted, hopes, layers, move_of, moved
 from gluework.errors import Loose
 from gluework.forms import form, likeness_by_looks
 from gluework.matches import matches
+from gluework.rows import row_copied
 from gluework.rules import fresh_of, taken
-from gluework.splits import named_step
-from gluework.steps import done, step_copied, taken_out
+from gluework.steps import done, named_step, taken_out
 
 
 class Spot:
@@ -142,7 +142,5 @@ def met_again(rules, web, other, points, most):
         # Many splits meet at once, and rows without steps need no rules, which would all have to be counted.
         met = met_within(rules if limit > 0 else [], web, other, points, limit)
         if met is not None:
-            way = [step_copied(step) for step in met[0].steps]
-            other_way = [step_copied(step) for step in met[1].steps]
-            return (way, other_way, likeness_of(met[0], met[1], points))
+            return (row_copied(met[0].steps), row_copied(met[1].steps), likeness_of(met[0], met[1], points))
     return None

@@ -3,18 +3,14 @@
 from gluework.apart import clash
 from gluework.errors import GlueError, HasBars
 from gluework.overlaps import overlap_web, overlaps
-from gluework.rules import fresh_of, rule_copied
+from gluework.rules import rule_copied
+from gluework.steps import named_step
 
 
 def refuse_bars(rules):
     """Refuses with HasBars where one of the rules has bars."""
     if any([len(rule[2]) > 0 for rule in rules]):
         raise HasBars("a rule has bars")
-
-
-def named_step(rule, match, mark):
-    """The step by this match, the names of its new things being the rule's with mark ahead."""
-    return (rule, match, dict([(name, mark + name) for name in fresh_of(rule)]))
 
 
 def split_steps(rule, other, pairs):

@@ -37,8 +37,8 @@ def names_serve(web, rule, fresh):
     return not any([name in web[0] or name in web[1] for name in fresh.values()])
 
 
-def done(web, step):
-    """The web behind the step; refused by the first of NoMatch, Loose, Barred, NoNames that is due."""
+def rest_of(web, step):
+    """The web without what the step takes out; refused by the first of NoMatch, Loose, Barred that is due."""
     rule = step[0]
     if not is_match(rule[0], web, step[1]):
         raise NoMatch("this is no match of the rule's left in the web")
@@ -46,6 +46,13 @@ def done(web, step):
     rest = without(web, taken_out(step))
     if barred(web, rule, step[1]) is not None:
         raise Barred("a bar of the rule lies there")
+    return rest
+
+
+def done(web, step):
+    """The web behind the step; refused by the first of NoMatch, Loose, Barred, NoNames that is due."""
+    rule = step[0]
+    rest = rest_of(web, step)
     if not names_serve(web, rule, step[2]):
         raise NoNames("these are no names for the new things")
     return united(rest, renamed(rule[1], behind(step)))
@@ -62,6 +69,11 @@ def behind(step):
 def back(step):
     """The step that leads back from behind this one."""
     return (turned(step[0]), behind(step), picked(step[1], taken(step[0])))
+
+
+def named_step(rule, match, mark):
+    """The step by this match, the names of its new things being the rule's with mark ahead."""
+    return (rule, match, dict([(name, mark + name) for name in fresh_of(rule)]))
 
 
 def step_copied(step):

@@ -339,6 +339,43 @@ def assert_likeness(case, web, other, likeness, kept):
         case.assertEqual(name, likeness[name])
 
 
+def slow_choices(web, rules):
+    """The list of point 27, word for word: each match of each rule tried, with names that the web has not."""
+    told = []
+    for number, rule in enumerate(rules):
+        for match in slow_matches(rule[0], web):
+            if slow_done(web, (rule, match, new_names(rule, "free.")))[0] == "web":
+                told.append((number, match))
+    return told
+
+
+def slow_ended(web, rules, hand, mark):
+    """The ending of point 27, word for word, where nothing is refused."""
+    row = []
+    while slow_choices(web, rules):
+        told = slow_choices(web, rules)
+        number, match = told[hand(len(row), told) % len(told)]
+        row.append((rules[number], match, new_names(rules[number], f"{mark}{len(row)}.")))
+        web = slow_done(web, row[-1])[1]
+    return row, web
+
+
+def slow_weight(web, weights):
+    """Point 26, word for word."""
+    return sum(weights.get(kind, 0) for kind in [*web[0].values(), *(tie[0] for tie in web[1].values())])
+
+
+def some_falling_rules(chance, web, most, bars=0):
+    """Weights and at most so many rules that fall by them, which most often can be done in web, drawn by chance."""
+    weights = {kind: chance.choice([0, 1, 2, 3]) for kind in "xykl" if chance.randrange(8)}
+    drawn = [some_rule(chance, "xxxy", "kkkl", bars) for k in range(100)]
+    falling = [rule for rule in drawn if slow_weight(rule[1], weights) < slow_weight(rule[0], weights)]
+    ready = [rule for rule in falling if slow_choices(web, [rule])]
+    told = (ready[:most] + falling)[:most]
+    chance.shuffle(told)
+    return weights, told
+
+
 class Unchanged:
     """Asks, behind a with-block, whether the things handed in are what they were, order and all."""
 

@@ -26,6 +26,15 @@ INTERFACE = {
     "meetings": ["meeting(rules, i, j, pairs, most)", "looked_through(rules, most=1)"],
     "books": ["Book(rules, most=1)", "Book.meetings(self)", "Book.meet(self, web, one, other, mark='m')"],
     "weights": ["weighed(web, weights)", "falls(rule, weights)"],
+    "ends": ["choices(web, rules)", "ended(web, rules, weights, hand, mark='n')"],
+    "workshop": [
+        "Workshop(web, rules)", "Workshop.web(self)", "Workshop.row(self)", "Workshop.choices(self)",
+        "Workshop.deed(self, number, match, mark='n')", "Workshop.undo(self)", "Workshop.redo(self)",
+    ],
+    "texts": [
+        "web_shown(web)", "rule_shown(rule)", "match_shown(piece, match)", "web_read(text)", "rule_read(text)",
+    ],
+    "desk": ["Desk()", "Desk.say(self, row)"],
 }
 
 

@@ -341,11 +341,19 @@ class Language(unittest.TestCase):
                     for node in [node for row in loop.body for node in ast.walk(row)]:
                         self.assertNotIn(changed(node), walked, (path.name, loop.lineno))
 
-    def test_names_at_a_file_s_top_are_given_plain_values_that_cannot_change(self):
+    def test_names_at_a_file_s_top_are_given_plain_values_that_are_only_read(self):
         for path in FILES:
-            for row in parsed(path).body:
-                if isinstance(row, ast.Assign):
-                    self.assertIsInstance(ast.literal_eval(row.value), (int, str, bool, tuple), (path.name, row.lineno))
+            tree = parsed(path)
+            kept = {row.targets[0].id: ast.literal_eval(row.value) for row in tree.body if isinstance(row, ast.Assign)}
+            for name, value in kept.items():
+                self.assertIsInstance(value, (int, str, bool, tuple, dict), (path.name, name))
+                for held in value.values() if isinstance(value, dict) else value if isinstance(value, tuple) else ():
+                    hash(held)
+            for above, node in kin(tree):
+                if isinstance(node, ast.Name) and isinstance(kept.get(node.id), dict) and above not in tree.body:
+                    indexed = isinstance(above, ast.Subscript) and isinstance(above.ctx, ast.Load)
+                    asked = isinstance(above, ast.Compare) and isinstance(above.ops[0], (ast.In, ast.NotIn))
+                    self.assertTrue(indexed or asked, (path.name, node.lineno))
 
     def test_powers_lambdas_and_written_sets_are_done_without(self):
         # Each is allowed in narrow forms alone, which nothing here needs.

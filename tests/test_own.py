@@ -4,7 +4,11 @@ import unittest
 
 from gluework.apart import changed_places, clash
 from gluework.books import Book
-from gluework.errors import Barred, HasBars, Loose, NoMatch, NoNames, NoOverlap, NoRule, NoWeb, Open
+from gluework.desk import Desk
+from gluework.ends import choices, ended
+from gluework.errors import (
+    Barred, HasBars, Loose, NoDeed, NoFall, NoMatch, NoNames, NoOverlap, NoRow, NoRule, NoText, NoWeb, Open,
+)
 from gluework.matches import is_match, likeness, line, matches
 from gluework.meetings import looked_through, meeting
 from gluework.overlaps import lies, overlap_of, overlap_web, overlaps
@@ -12,10 +16,12 @@ from gluework.rows import back_row, gone_through
 from gluework.rules import fresh_of, is_rule, kept, taken, turned
 from gluework.splits import split_steps, splits
 from gluework.steps import back, barred, behind, done
+from gluework.texts import match_shown, rule_read, rule_shown, web_read, web_shown
 from gluework.weights import falls, weighed
 from gluework.webs import (
     checked, glued, hold, is_kind, is_name, is_part, is_web, renamed, things, without,
 )
+from gluework.workshop import Workshop
 from samples import RICH, Unchanged, turned_about
 
 PIECE = ({"q": "x", "p": "x"}, {"s": ("k", "p", "q"), "r": ("k", "p", "q")})
@@ -58,6 +64,40 @@ BOOK_STEPS = [
 ]
 GROW = (POINTS, (POINTS[0], {"t": ("k", "n", "m")}), [])
 GROW_STEPS = [(GROW, {"n": "p", "m": "q"}, {"t": name}) for name in ("n.t", "o.t")]
+
+
+# Rules that fall by the weights: a tie becomes a lighter one, or goes with one of its points.
+CUT = (({"b": "x", "a": "x"}, {"t": ("k", "a", "b")}), ({"b": "x", "a": "x"}, {"u": ("n", "b", "a")}), [
+    ({"b": "x", "a": "x"}, {"t": ("k", "a", "b"), "o": ("w", "a", "b")}),
+])
+FALLING = [CUT, (({"b": "x", "a": "x"}, {"t": ("k", "a", "b")}), ({"a": "x"}, {}), [])]
+WEIGHTS = {"x": 3, "n": 1, "k": 2}
+
+
+def ended_by_last(web, rules, weights):
+    return ended(web, rules, weights, lambda number, told: -1, "mark")
+
+
+def shop_told(web, rules, deeds):
+    """All that a workshop tells, where some deeds are done, undone and done again."""
+    shop = Workshop(web, rules)
+    told = [shop.web(), shop.row(), shop.choices()]
+    for number, match in deeds:
+        told.append(shop.deed(number, match))
+    told.extend([shop.undo(), shop.row(), shop.choices(), shop.redo(), shop.row(), shop.choices(), shop.web()])
+    return told
+
+
+def shop_refused(web, rules, asked, handed):
+    """What a workshop refuses behind a deed."""
+    shop = Workshop(web, rules)
+    shop.deed(0, {"t": "t", "b": "q", "a": "p"})
+    getattr(shop, asked)(*handed)
+
+
+def said(rows):
+    desk = Desk()
+    return [desk.say(row) for row in rows]
 
 
 def book_meetings(rules, most):
@@ -133,6 +173,16 @@ CALLS = [
     (book_met, (BOOK_RULES, BOOK_WEB, BOOK_STEPS[1], BOOK_STEPS[0])),
     (book_met, ([GROW], BOOK_WEB, GROW_STEPS[0], GROW_STEPS[1])),
     (weighed, (RICH, {"y": 3, "x": 2, "k": 1})), (falls, (RULE, {"y": 3, "x": 2, "k": 1})),
+    (choices, (BOOK_WEB, FALLING)), (choices, (WEB, [STILL, FREE, ALL_KEPT, CUT])), (choices, (RICH, [])),
+    (ended_by_last, (BOOK_WEB, FALLING, WEIGHTS)), (ended_by_last, (WEB, FALLING, WEIGHTS)),
+    (ended_by_last, (RICH, [], {})), (ended_by_last, (POINTS, [(({"p": "x"}, {}), ({"q": "y"}, {}), [])], {"x": 1})),
+    (shop_told, (BOOK_WEB, FALLING + BOOK_RULES, [(0, {"t": "t", "b": "q", "a": "p"})])),
+    (shop_told, (WEB, [STILL, FREE, ALL_KEPT], [(0, MATCH), (0, MATCH), (1, MATCH), (2, {"q": "r", "p": "n2.c"})])),
+    (web_shown, (RICH,)), (web_shown, (({}, {}),)), (rule_shown, (RULE,)), (rule_shown, (FREE,)),
+    (match_shown, (PIECE, PIECE_MATCH)), (match_shown, (({}, {}), {})), (web_read, ("t:k(b,a) b:x a:x",)),
+    (web_read, ("-",)), (rule_read, ("t:k(b,a) b:x a:x > b:x ! a:x t:k(b,a) c:y b:x",)),
+    (rule_read, ("- > - ! - ! -",)),
+    (said, (["rule r p:x > -", "web b:x a:x", "matches r", "do r 0", "undo", "weigh x 1", "end r"],)),
 ]
 
 REFUSED = [
@@ -148,6 +198,12 @@ REFUSED = [
     (HasBars, book_meetings, ([FREE], 1)), (Open, book_meetings, (BOOK_RULES, 0)),
     (NoRule, book_met, (BOOK_RULES, BOOK_WEB, BOOK_STEPS[0], GROW_STEPS[0])),
     (NoNames, book_met, (BOOK_RULES, BOOK_WEB, BOOK_STEPS[0], BOOK_STEPS[0])),
+    (NoNames, ended_by_last, (({"mark": "x"}, {}), FALLING, WEIGHTS)), (NoFall, ended_by_last, (WEB, [STILL], WEIGHTS)),
+    (NoRule, shop_refused, (BOOK_WEB, FALLING, "deed", [2, {"t": "s", "b": "q", "a": "q"}])),
+    (NoNames, shop_refused, (BOOK_WEB, FALLING, "deed", [0, {"t": "s", "b": "q", "a": "q"}, ["n"]])),
+    (NoMatch, shop_refused, (BOOK_WEB, FALLING, "deed", [0, {"t": "s", "b": "q", "a": "q"}])),
+    (NoDeed, shop_refused, (BOOK_WEB, FALLING, "redo", [])), (NoText, web_read, (["a:x"],)),
+    (NoText, rule_read, ({"a": "x"},)), (NoRow, said, ([["show"]],)),
 ]
 
 
@@ -198,13 +254,15 @@ class Own(unittest.TestCase):
     def test_the_samples_themselves(self):
         self.assertEqual(RICH, turned_about(RICH))
         self.assertNotEqual(repr(RICH), repr(turned_about(RICH)))
-        for rule in [RULE, FREE, ALL_KEPT, STILL, GROW] + BOOK_RULES:
+        for rule in [RULE, FREE, ALL_KEPT, STILL, GROW] + BOOK_RULES + FALLING:
             self.assertTrue(is_rule(rule))
         self.assertIn(BOOK_PAIRS, splits(BOOK_RULES[0], BOOK_RULES[1]))
         self.assertTrue(all(book_met(BOOK_RULES, BOOK_WEB, *BOOK_STEPS)))
         self.assertIsNotNone(barred(WEB, RULE, MATCH))
         self.assertIsNotNone(changed_places(WEB, ROW, 0))
         self.assertIsNone(changed_places(WEB, [OTHER_STEP, STEP, THIRD_STEP], 1))
+        self.assertGreater(len(ended_by_last(WEB, FALLING, WEIGHTS)[0]), 1)
+        self.assertGreater(len(shop_told(BOOK_WEB, FALLING, [(0, {"t": "t", "b": "q", "a": "p"})])[-3]), 0)
 
 
 if __name__ == "__main__":
